@@ -1,4 +1,4 @@
-// Package ring: a lane is a ring of places, which clients claim and fill and the core takes in their order.
+// Package ring: a lane is a ring of places, which clients claim and fill and the core takes in their order; a ring of answers is what the core lays down for a client.
 package ring
 
 // Lane is a ring of places. Its places are numbered on without end; a place and the one a whole ring behind it share a slot.

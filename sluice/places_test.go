@@ -43,17 +43,6 @@ func publish(t *testing.T, g *sluice.Gate, client, lane, place int, frame string
 	}
 }
 
-func TestExampleOfTheDocument(t *testing.T) {
-	g := made(t, example())
-	claim(t, g, 0, api.Common, 0, api.OK)
-	claim(t, g, 0, api.Common, 1, api.OK)
-	claim(t, g, 0, api.Common, 0, api.ErrFull)
-	order := "\x01\x00\x00\x00" + "\x00\x00\x00\x07" + "\x00\x00\x00\x00\x00\x00\x00\x05" + "\x00\x00\x00\x00\x00\x00\x00\x0a" + "\x00\x00\x00\x00\x00\x00\x00\x03"
-	publish(t, g, 0, api.Common, 1, order, api.OK)
-	publish(t, g, 0, api.Common, 0, "", api.OK)
-	publish(t, g, 0, api.Common, 0, "", api.ErrTicket)
-}
-
 func TestNewAtTheBounds(t *testing.T) {
 	least := api.Config{Clients: 1, Common: 2, Urgent: 2, Answers: 2, Checks: 1, Accounts: []api.Limits{{Window: 1}}}
 	l := api.Limits{Large: api.MaxLimit, Long: api.MaxLimit, Short: api.MaxLimit, Worth: api.MaxLimit, Rate: api.MaxLimit, Window: api.MaxWindow}

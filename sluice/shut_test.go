@@ -1,6 +1,7 @@
 package sluice
 
 import (
+	"strings"
 	"testing"
 
 	"sluice/api"
@@ -74,8 +75,8 @@ func TestPlacesBehindThoseTaken(t *testing.T) {
 		claimed(t, g, 1, lane, 1, api.OK)
 		filled(t, g, 0, lane, 0, api.OK)
 		claimed(t, g, 0, lane, 0, api.ErrFull)
-		if _, ok := g.lanes[lane].Take(); !ok {
-			t.Fatal("a filled place is not taken")
+		if n, e := g.Core(); n != map[int]int{api.Common: api.Served, api.Urgent: api.Rushed}[lane] || e != api.OK {
+			t.Fatalf("P5: Core = %d, error %d: a filled place is not taken", n, e)
 		}
 		filled(t, g, 0, lane, 0, api.ErrTicket)
 		claimed(t, g, 0, lane, 2, api.OK)
@@ -84,4 +85,64 @@ func TestPlacesBehindThoseTaken(t *testing.T) {
 		filled(t, g, 0, lane, 2, api.OK)
 		filled(t, g, 1, lane, 1, api.OK)
 	}
+}
+
+// What a frame of the common lane is answered with, taken at once.
+func served(t *testing.T, g *Gate, f string, want int) {
+	t.Helper()
+	// Claim would refuse once the gate is shut.
+	place, _ := g.lanes[api.Common].Claim(0)
+	g.Publish(0, api.Common, place, f)
+	if n, e := g.Core(); n != api.Served || e != api.OK {
+		t.Fatalf("P5: Core = %d, error %d", n, e)
+	}
+	if a, e := g.Poll(0); a != (api.Answer{Place: place, Code: want}) || e != api.OK {
+		t.Fatalf("P5: the frame %x: %v, error %d, want %d", f, a, e, want)
+	}
+}
+
+func rushed(t *testing.T, g *Gate, f string, want int) {
+	t.Helper()
+	place, _ := g.lanes[api.Urgent].Claim(1)
+	g.Publish(1, api.Urgent, place, f)
+	if n, e := g.Core(); n != api.Rushed || e != api.OK {
+		t.Fatalf("P5: Core = %d, error %d", n, e)
+	}
+	if l, e := g.Acks(1); len(l) != 1 || l[0] != (api.Answer{Place: place, Code: want}) || e != api.OK {
+		t.Fatalf("P5: the frame %x: %v, error %d, want %d", f, l, e, want)
+	}
+}
+
+func buys(number string) string {
+	const one = "\x00\x00\x00\x00\x00\x00\x00\x01"
+	return "\x01\x00\x00\x00\x00\x00\x00" + number + one + one + one
+}
+
+func plain(kind, number string) string {
+	return kind + "\x00\x00\x00\x00\x00\x00" + number + strings.Repeat("\x00", 24)
+}
+
+// Once shut, no New is Done; Cancels, Kills and Unkills are, and what is wrong is told as before.
+func TestFramesOnceShut(t *testing.T) {
+	g, e := New(api.Config{Clients: 2, Common: 2, Urgent: 2, Answers: 2, Checks: 1, Accounts: []api.Limits{{Large: 1, Long: 9, Worth: 9, Rate: 9, Window: 1}}})
+	if e != api.OK {
+		t.Fatalf("P3: New: error %d", e)
+	}
+	served(t, g, buys("\x01"), api.Done)
+	served(t, g, buys("\x02"), api.Done)
+	close(g.shut)
+	served(t, g, buys("\x03"), api.Shut)
+	served(t, g, buys("\x01"), api.Shut)
+	served(t, g, plain("\x02", "\x01"), api.Done)
+	served(t, g, plain("\x02", "\x01"), api.Unknown)
+	served(t, g, buys("\x03")[1:], api.Size)
+	served(t, g, "\x01\x01"+buys("\x03")[2:], api.Account)
+	rushed(t, g, plain("\x03", "\x00"), api.Done)
+	served(t, g, buys("\x03"), api.Shut)
+	served(t, g, plain("\x02", "\x02"), api.Done)
+	rushed(t, g, plain("\x03", "\x00"), api.Done)
+	rushed(t, g, plain("\x04", "\x00"), api.Done)
+	rushed(t, g, plain("\x04", "\x00"), api.Done)
+	rushed(t, g, plain("\x04", "\x01"), api.Rest)
+	served(t, g, buys("\x03"), api.Shut)
 }
