@@ -41,6 +41,11 @@ func (a *Account) Cancel(number int) int {
 	return api.Done
 }
 
+// End lets the orders be open no more that end at this time; those that ended earlier are gone already.
+func (a *Account) End(now int) {
+	a.open.end(now)
+}
+
 // Stop stops the account, also if it is stopped already.
 func (a *Account) Stop() {
 	a.stopped = true

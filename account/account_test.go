@@ -211,6 +211,68 @@ func TestNoMoreIsCountedThanAWindow(t *testing.T) {
 	}
 }
 
+// lives has one order for each life; its number is the life.
+func lives(t *testing.T, a *Account, now int, list ...int) {
+	t.Helper()
+	for _, life := range list {
+		opens(t, a, frame.New{Side: life % 2, Number: life, Price: 3, Qty: 2, Life: life}, now, api.Done)
+	}
+}
+
+func TestEnd(t *testing.T) {
+	a := New(wide())
+	a.End(1)
+	lives(t, a, 1, 5, 2, 1, 4, 3)
+	a.End(1)
+	for now := 2; now <= 6; now++ {
+		for number := 1; number <= 5; number++ {
+			if want := number+1 >= now; a.open.has(number) != want {
+				t.Fatalf("P7: at %d order %d is open: %t", now-1, number, !want)
+			}
+		}
+		a.End(now)
+		left := 6 - now
+		if len(a.open.byEnd) != left || len(a.open.numbered) != left || a.open.worth != 6*left || a.open.qty[0]+a.open.qty[1] != 2*left {
+			t.Fatalf("P7: at %d, %d should be open: %+v", now, left, a.open)
+		}
+	}
+	if a.open.qty != [2]int{} {
+		t.Errorf("P7: nothing is open, and the quantities are %v", a.open.qty)
+	}
+}
+
+// All that end at one time end, also if others lie in the heap with them; what was cancelled is not there to end.
+func TestManyEndAtOneTime(t *testing.T) {
+	a := New(wide())
+	for i := range 60 {
+		n := buy(i, 1, 1)
+		n.Life = 10 * (1 + i%3)
+		opens(t, a, n, 0, api.Done)
+	}
+	cancels(t, a, 0, api.Done)
+	cancels(t, a, 59, api.Done)
+	for now := 1; now <= 30; now++ {
+		a.End(now)
+		want := []int{58, 39, 19, 0}[now/10]
+		if len(a.open.byEnd) != want || a.open.qty[frame.Buys] != want {
+			t.Fatalf("P7: at %d %d are open, %d lie in the heap, want %d", now, a.open.qty[frame.Buys], len(a.open.byEnd), want)
+		}
+	}
+}
+
+// The News that were taken count for Rate also when their orders have ended.
+func TestRateCountsOrdersThatEnded(t *testing.T) {
+	l := wide()
+	l.Rate, l.Window = 2, 3
+	a := New(l)
+	lives(t, a, 0, 1, 2)
+	a.End(1)
+	a.End(2)
+	opens(t, a, buy(9, 1, 1), 2, api.Rate)
+	a.End(3)
+	opens(t, a, buy(9, 1, 1), 3, api.Done)
+}
+
 func TestTheFirstToEndIsOnTop(t *testing.T) {
 	r := rand.New(rand.NewSource(1))
 	a := New(wide())

@@ -37,6 +37,13 @@ func (s *orders) remove(number int) {
 	s.worth -= o.worth
 }
 
+// end takes out the orders that end at this time or ahead of it: the top of the heap, as long as it is one of them.
+func (s *orders) end(now int) {
+	for len(s.byEnd) > 0 && s.byEnd[0].end <= now {
+		s.remove(s.byEnd[0].number)
+	}
+}
+
 // ending is a heap of orders for container/heap, the first to end on top.
 type ending []*order
 

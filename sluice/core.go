@@ -17,6 +17,8 @@ func (g *Gate) Core() (int, api.Errno) {
 	if g == nil {
 		return 0, api.ErrNil
 	}
+	// Ahead of what it does: a step that finds nothing to do is one too.
+	g.watch.Stepped()
 	// The urgent lane is asked also while the core waits, so that nothing holds up a Kill.
 	if t, ok := g.lanes[api.Urgent].Take(); ok {
 		return g.rush(t), api.OK
@@ -62,7 +64,7 @@ func (g *Gate) answer(lane int, t ring.Taken) api.Answer {
 func (g *Gate) do(said frame.Said) int {
 	switch x := said.(type) {
 	case frame.New:
-		if g.isShut() {
+		if g.watch.IsShut() {
 			return api.Shut
 		}
 		return g.accounts[x.Account].Open(x, g.time)

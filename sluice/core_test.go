@@ -101,6 +101,10 @@ func TestExampleOfTheDocument(t *testing.T) {
 	answered(t, g, order(0, 0, 8, 500, 2, 3), api.Worth)
 	answered(t, g, order(0, 0, 8, 5, 2, 3), api.Done)
 	answered(t, g, order(0, 0, 9, 5, 0, 3), api.Qty)
+	ticks(t, g, 2)
+	answered(t, g, order(0, 0, 7, 5, 1, 3), api.Twice)
+	ticks(t, g, 1)
+	answered(t, g, other(api.Cancel, 0, 7), api.Unknown)
 }
 
 func TestANewGateIsIdle(t *testing.T) {

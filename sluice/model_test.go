@@ -22,7 +22,8 @@ type model struct {
 	waits   []waits // one at most
 	orders  []openOrder
 	stopped map[int]int
-	news    map[int]int // how many were taken, by accounts
+	news    []taken
+	calls   []string // of Core, Tick and Watch, as far as it was a check
 }
 
 type place struct {
@@ -36,10 +37,12 @@ type waits struct {
 	answer api.Answer
 }
 
-type openOrder struct{ account, number, side, price, qty int }
+type openOrder struct{ account, number, side, price, qty, end int }
+
+type taken struct{ account, time int }
 
 func newModel(c api.Config) *model {
-	return &model{config: c, answers: make([][]api.Answer, c.Clients), acks: make([][]api.Answer, c.Clients), stopped: map[int]int{}, news: map[int]int{}}
+	return &model{config: c, answers: make([][]api.Answer, c.Clients), acks: make([][]api.Answer, c.Clients), stopped: map[int]int{}}
 }
 
 func (m *model) claim(client, lane int) (int, api.Errno) {
@@ -48,6 +51,9 @@ func (m *model) claim(client, lane int) (int, api.Errno) {
 	}
 	if lane != 0 && lane != 1 {
 		return 0, api.ErrLane
+	}
+	if m.shut() {
+		return 0, api.ErrClosed
 	}
 	if len(m.lanes[lane])-m.taken[lane] == []int{m.config.Common, m.config.Urgent}[lane] {
 		return 0, api.ErrFull
@@ -80,6 +86,7 @@ func (m *model) next(lane int) (place, int, bool) {
 }
 
 func (m *model) core() int {
+	m.calls = append(m.calls, "core")
 	if p, n, ok := m.next(api.Urgent); ok {
 		m.acks[p.client] = append(m.acks[p.client], api.Answer{Place: n, Code: m.urgent(p.frame)})
 		return api.Rushed
@@ -100,6 +107,58 @@ func (m *model) core() int {
 	m.answers[w.client] = append(m.answers[w.client], w.answer)
 	m.waits = nil
 	return result
+}
+
+func (m *model) time() int {
+	n := 0
+	for _, c := range m.calls {
+		if c == "tick" {
+			n++
+		}
+	}
+	return n
+}
+
+func (m *model) tick() {
+	m.calls = append(m.calls, "tick")
+	m.orders = slices.DeleteFunc(m.orders, func(o openOrder) bool { return o.end == m.time() })
+}
+
+func (m *model) watch() bool {
+	since := m.calls[1+lastOf(m.calls, "check"):]
+	if slices.Contains(since, "tick") {
+		m.calls = append(m.calls, "check")
+	}
+	return m.shut()
+}
+
+// shut goes through all checks from the beginning: it is shut if ever as many as Checks, one behind the other, had no step ahead of them.
+func (m *model) shut() bool {
+	misses, stepped := 0, false
+	for _, c := range m.calls {
+		switch {
+		case c == "core":
+			stepped = true
+		case c == "check" && stepped:
+			misses, stepped = 0, false
+		case c == "check":
+			misses++
+		}
+		if misses == m.config.Checks {
+			return true
+		}
+	}
+	return false
+}
+
+// lastOf tells where a word stands last in a list; -1, if it does not.
+func lastOf(list []string, word string) int {
+	for i := len(list) - 1; i >= 0; i-- {
+		if list[i] == word {
+			return i
+		}
+	}
+	return -1
 }
 
 func (m *model) poll(client int) (api.Answer, api.Errno) {
@@ -179,6 +238,12 @@ func (m *model) open(account, side, number int, f []byte) int {
 		}
 		twice = twice || o.number == number
 	}
+	news := 0
+	for _, n := range m.news {
+		if n.account == account && n.time > m.time()-l.Window {
+			news++
+		}
+	}
 	above := func(n *big.Int, limit int) bool { return n.Cmp(big.NewInt(int64(limit))) > 0 }
 	for _, c := range []struct {
 		holds bool
@@ -187,6 +252,7 @@ func (m *model) open(account, side, number int, f []byte) int {
 		{price < 1, api.Price},
 		{qty < 1, api.Qty},
 		{life < 1 || life > 1000000, api.Life},
+		{m.shut(), api.Shut},
 		{m.stopped[account] == 1, api.Killed},
 		{twice, api.Twice},
 		{above(own, 1<<63-1) || above(worth, 1<<63-1) || above(sum, 1<<63-1), api.Over},
@@ -194,14 +260,14 @@ func (m *model) open(account, side, number int, f []byte) int {
 		{side == 0 && above(sum, l.Long), api.Long},
 		{side == 1 && above(sum, l.Short), api.Short},
 		{above(worth, l.Worth), api.Worth},
-		{m.news[account] >= l.Rate, api.Rate},
+		{news >= l.Rate, api.Rate},
 	} {
 		if c.holds {
 			return c.code
 		}
 	}
-	m.news[account]++
-	m.orders = append(m.orders, openOrder{account, number, side, price, qty})
+	m.news = append(m.news, taken{account, m.time()})
+	m.orders = append(m.orders, openOrder{account, number, side, price, qty, m.time() + life})
 	return api.Done
 }
 
@@ -232,9 +298,9 @@ func TestTheGateAndTheModelAgree(t *testing.T) {
 		r := rand.New(rand.NewSource(seed))
 		size := func() int { return 2 << r.Intn(4) }
 		limit := func() int { return []int{0, 3, 20, 100, 1 << 40, 1 << 62}[r.Intn(6)] }
-		c := api.Config{Clients: 1 + r.Intn(3), Common: size(), Urgent: size(), Answers: size(), Checks: 1}
+		c := api.Config{Clients: 1 + r.Intn(3), Common: size(), Urgent: size(), Answers: size(), Checks: []int{1, 2, 3, 100}[r.Intn(4)]}
 		for range 2 {
-			c.Accounts = append(c.Accounts, api.Limits{Large: limit(), Long: limit(), Short: limit(), Worth: limit(), Rate: limit(), Window: 1})
+			c.Accounts = append(c.Accounts, api.Limits{Large: limit(), Long: limit(), Short: limit(), Worth: limit(), Rate: limit(), Window: 1 + r.Intn(12)})
 		}
 		g, m := made(t, c), newModel(c)
 		for i := range 600 {
@@ -244,7 +310,7 @@ func TestTheGateAndTheModelAgree(t *testing.T) {
 		}
 	}
 	for code := api.Done; code <= api.Unknown; code++ {
-		if code != api.Shut && told[code] == 0 {
+		if told[code] == 0 {
 			t.Errorf("no answer had the code %d", code)
 		}
 	}
@@ -256,12 +322,12 @@ func oneCall(r *rand.Rand, g *sluice.Gate, m *model, told map[int]int) string {
 	if r.Intn(50) == 0 {
 		client, lane = r.Intn(20)-10, r.Intn(20)-10
 	}
-	switch r.Intn(9) {
-	case 0, 1:
+	switch r.Intn(20) {
+	case 0, 1, 2, 3:
 		a, e := g.Claim(client, lane)
 		b, f := m.claim(client, lane)
 		return unless(a == b && e == f, "P4: Claim(%d, %d) = %d, %d, want %d, %d", client, lane, a, e, b, f)
-	case 2, 3, 4:
+	case 4, 5, 6, 7, 8:
 		frame, n := anyFrame(r, lane), 0
 		if lane == 0 || lane == 1 {
 			n = m.taken[lane] + r.Intn(18) - 1
@@ -272,11 +338,19 @@ func oneCall(r *rand.Rand, g *sluice.Gate, m *model, told map[int]int) string {
 		}
 		e, f := g.Publish(client, lane, n, frame), m.publish(client, lane, n, frame)
 		return unless(e == f, "P4: Publish(%d, %d, %d, %x) = %d, want %d", client, lane, n, frame, e, f)
-	case 5, 6:
+	case 9, 10, 11, 12:
 		a, e := g.Core()
 		b := m.core()
 		return unless(a == b && e == api.OK, "P5: Core = %d, %d, want %d", a, e, b)
-	case 7:
+	case 13:
+		e := g.Tick()
+		m.tick()
+		return unless(e == api.OK, "P7: Tick = %d", e)
+	case 14:
+		a, e := g.Watch()
+		b := m.watch()
+		return unless(a == b && e == api.OK, "P7: Watch = %t, %d, want %t", a, e, b)
+	case 15, 16, 17:
 		a, e := g.Poll(client)
 		b, f := m.poll(client)
 		if f == api.OK {

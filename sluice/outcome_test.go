@@ -1,6 +1,7 @@
 package sluice_test
 
 import (
+	"maps"
 	"math/big"
 	"math/rand"
 	"testing"
@@ -176,9 +177,9 @@ func killedFrom(t *testing.T, g *sluice.Gate, first int) {
 	step(t, g, api.Idle)
 }
 
-type opened struct{ side, price, qty int }
+type opened struct{ side, price, qty, end int }
 
-// P11: what was answered Done, less what was cancelled, is within the limits, counted in numbers that have no end.
+// P11: what was answered Done, less what was cancelled and what has ended, is within the limits, counted in numbers that have no end.
 func TestNoAccountIsBeyondItsLimits(t *testing.T) {
 	r := rand.New(rand.NewSource(4))
 	sizes := []int{3, 10, 1 << 31, 1 << 62, 1<<63 - 1}
@@ -191,10 +192,16 @@ func TestNoAccountIsBeyondItsLimits(t *testing.T) {
 		}
 		g := made(t, c)
 		open := []map[int]opened{{}, {}}
-		for range 300 {
+		for i := range 600 {
+			if i%4 == 0 {
+				ticks(t, g, 1)
+				endBy(open, i/4+1)
+			}
 			account, number := r.Intn(2), r.Intn(20)
 			o := opened{side: r.Intn(2), price: 1 + r.Intn(sizes[r.Intn(len(sizes))]), qty: 1 + r.Intn(sizes[r.Intn(len(sizes))])}
-			f, cancels := order(account, o.side, number, o.price, o.qty, 1), r.Intn(3) == 0
+			life := 1 + r.Intn(10)
+			o.end = i/4 + 1 + life
+			f, cancels := order(account, o.side, number, o.price, o.qty, life), r.Intn(3) == 0
 			if cancels {
 				f = other(api.Cancel, account, number)
 			}
@@ -208,6 +215,13 @@ func TestNoAccountIsBeyondItsLimits(t *testing.T) {
 			}
 			withinLimits(t, c.Accounts[account], open[account])
 		}
+	}
+}
+
+// endBy takes out the orders that have ended by this time.
+func endBy(open []map[int]opened, now int) {
+	for _, orders := range open {
+		maps.DeleteFunc(orders, func(_ int, o opened) bool { return o.end <= now })
 	}
 }
 

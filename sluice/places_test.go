@@ -115,6 +115,26 @@ func TestPlacesOfClientsAndLanes(t *testing.T) {
 	claim(t, g, 0, api.Urgent, 0, api.ErrFull)
 }
 
+// The numbers go on behind places that were taken, and these are not filled again.
+func TestPlacesBehindThoseTaken(t *testing.T) {
+	for lane, did := range []int{api.Common: api.Served, api.Urgent: api.Rushed} {
+		c := example()
+		c.Clients = 2
+		g := made(t, c)
+		claim(t, g, 0, lane, 0, api.OK)
+		claim(t, g, 1, lane, 1, api.OK)
+		publish(t, g, 0, lane, 0, "x", api.OK)
+		claim(t, g, 0, lane, 0, api.ErrFull)
+		step(t, g, did)
+		publish(t, g, 0, lane, 0, "x", api.ErrTicket)
+		claim(t, g, 0, lane, 2, api.OK)
+		claim(t, g, 1, lane, 0, api.ErrFull)
+		publish(t, g, 0, lane, 0, "x", api.ErrTicket)
+		publish(t, g, 0, lane, 2, "x", api.OK)
+		publish(t, g, 1, lane, 1, "x", api.OK)
+	}
+}
+
 func TestTheFirstErrorIsTold(t *testing.T) {
 	g := made(t, example())
 	claim(t, g, 0, api.Common, 0, api.OK)

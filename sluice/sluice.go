@@ -6,6 +6,7 @@ import (
 	"sluice/api"
 	"sluice/ring"
 	"sluice/settings"
+	"sluice/watch"
 )
 
 // Gate has rings, a core and a watch.
@@ -15,7 +16,7 @@ type Gate struct {
 	lanes    [2]*ring.Lane // by their numbers, api.Common and api.Urgent
 	waiting  *late         // what the core waits with; nil, if it does not wait
 	time     int           // how many ticks went by
-	shut     chan struct{} // closed when the gate is shut; nothing is ever sent
+	watch    *watch.Watch
 }
 
 // inbox has what is there for a client to fetch.
@@ -29,7 +30,7 @@ func New(c api.Config) (*Gate, api.Errno) {
 	if !settings.MayBe(c) {
 		return nil, api.ErrConfig
 	}
-	g := &Gate{shut: make(chan struct{})}
+	g := &Gate{watch: watch.New(c.Checks)}
 	for range c.Clients {
 		g.inboxes = append(g.inboxes, &inbox{answers: ring.NewAnswers(c.Answers)})
 	}
@@ -46,7 +47,7 @@ func (g *Gate) Claim(client int, lane int) (int, api.Errno) {
 	if e := g.checkLane(client, lane); e != api.OK {
 		return 0, e
 	}
-	if g.isShut() {
+	if g.watch.IsShut() {
 		return 0, api.ErrClosed
 	}
 	place, ok := g.lanes[lane].Claim(client)
@@ -90,15 +91,6 @@ func (g *Gate) checkClient(client int) api.Errno {
 	return api.OK
 }
 
-func (g *Gate) isShut() bool {
-	select {
-	case <-g.shut:
-		return true
-	default:
-		return false
-	}
-}
-
 // Poll takes a client's oldest answer (P5).
 func (g *Gate) Poll(client int) (api.Answer, api.Errno) {
 	if e := g.checkClient(client); e != api.OK {
@@ -124,7 +116,23 @@ func (g *Gate) Acks(client int) ([]api.Answer, api.Errno) {
 }
 
 // Tick lets time go on (P7).
-func (g *Gate) Tick() api.Errno { return api.OK }
+func (g *Gate) Tick() api.Errno {
+	if g == nil {
+		return api.ErrNil
+	}
+	g.time++
+	for _, a := range g.accounts {
+		a.End(g.time)
+	}
+	g.watch.Ticked()
+	return api.OK
+}
 
 // Watch looks whether the core stands still (P7).
-func (g *Gate) Watch() (bool, api.Errno) { return false, api.OK }
+func (g *Gate) Watch() (bool, api.Errno) {
+	if g == nil {
+		return false, api.ErrNil
+	}
+	g.watch.Look()
+	return g.watch.IsShut(), api.OK
+}
